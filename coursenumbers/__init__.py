@@ -1,0 +1,1 @@
+"""Courses of a part as numbers."""
