@@ -64,6 +64,13 @@ def path_of(part, number, messages):
     return path
 
 
+# The number of the state behind a path that begins at the state of this number.
+def end_of(number, path):
+    if len(path) == 0:
+        return number
+    return path[len(path) - 1].goal
+
+
 def wrong_with(state, message):
     if state.deed == STOP:
         return AT_STOP

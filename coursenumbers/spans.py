@@ -1,5 +1,7 @@
 """Ranges and the values that fit them: how many there are, and their order."""
 
+from coursenumbers.packing import packed_number, unpacked_number
+
 FLAG = "flag"
 NUM = "num"
 TEXT = "text"
@@ -59,10 +61,7 @@ def value_place(span, value):
 
 
 def text_place(content):
-    place = 0
-    for byte in content:
-        place = place * 256 + byte
-    return text_count(len(content) - 1) + place
+    return text_count(len(content) - 1) + unpacked_number(content)
 
 
 def value_at(span, place):
@@ -78,8 +77,4 @@ def text_at(place):
         place -= as_long
         as_long *= 256
         length += 1
-    backwards = []
-    while len(backwards) < length:
-        backwards.append(place % 256)
-        place = place // 256
-    return tuple(reversed(backwards))
+    return tuple(packed_number(place, length))

@@ -48,6 +48,30 @@ def later(i, k, text):
     return [6, i, k] + row(text)
 
 
+def compare(i, first, second):
+    return [7, i] + row(first) + row(second)
+
+
+def share(i, n, j):
+    return [8, i, n, j]
+
+
+def width(i, n):
+    return [9, i, n]
+
+
+def pack(i, text):
+    return [10, i] + row(text)
+
+
+def unpack(i, n, packed):
+    return [11, i, n] + row(packed)
+
+
+def goes(i, text):
+    return [12, i] + row(text)
+
+
 def apart(told):
     parts = []
     at = 0

@@ -88,6 +88,13 @@ def courses_from(part, name, n):
     return [c for c, _ in courses]
 
 
+def end_of(part, name, messages):
+    states = {s[0]: s for s in part[3]}
+    for message in messages:
+        name = {branch[0]: branch[3] for branch in states[name][3]}[message[0]]
+    return name
+
+
 def value_key(value):
     return (len(value), list(value)) if isinstance(value, bytes) else value
 

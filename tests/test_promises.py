@@ -4,7 +4,7 @@ import random
 import unittest
 
 from tests import model
-from tests.calling import BUYING, course, many_on, on, rank, total, words_of
+from tests.calling import BUYING, compare, course, goes, many_on, on, pack, rank, total, unpack, width, words_of
 
 CHOSEN = ("P", "A", "S", [
     ("X", "send", ("A", "B"), [("x", [], [], "S")]),
@@ -34,6 +34,19 @@ class Kept(unittest.TestCase):
         courses = [words_of(answer) for answer in told]
         self.assertEqual(many_on(texts[0], [rank(i, c) for c in courses]), [[r] for r in range(many)])
         self.assertEqual(many_on(texts[1], [rank(k, c) for c in courses]), [[r] for r in range(many)])
+        self.pack_alike(texts, [i, k], n, courses)
+
+    # What one side packs the other one unpacks.
+    def pack_alike(self, texts, starts, n, courses):
+        packed = [many_on(text, [pack(i, c) for c in courses]) for text, i in zip(texts, starts)]
+        self.assertEqual(packed[0], packed[1])
+        self.assertEqual(on(texts[0], width(starts[0], n)), on(texts[1], width(starts[1], n)))
+        told = many_on(texts[1], [unpack(starts[1], n, p[1:]) for p in packed[0]])
+        self.assertEqual([words_of(answer) for answer in told], courses)
+        for text, i in zip(texts, starts):
+            self.assertEqual([a[:2] for a in many_on(text, [goes(i, c) for c in courses])], [[1, n]] * len(courses))
+            self.assertEqual(many_on(text, [compare(i, a, b) for a, b in zip(courses, courses[1:])]),
+                             [[1]] * (len(courses) - 1 if courses else 0))
 
     def test_chosen(self):
         tidied, least = model.tidied(CHOSEN), model.least(CHOSEN)

@@ -1,6 +1,7 @@
 import unittest
 
-from tests.calling import PLAIN, course, later, load, on, rank, row, run, shown, size, total
+from tests.calling import (PLAIN, compare, course, goes, later, load, on, pack, rank, row, run, share, shown, size,
+                           total, unpack, width)
 
 # At S any number of messages, of T the totals pass the limit from 2 messages on, U is a stop.
 PART = ("part P of A start S S = send A -> B { m(num 0 9) S ; u() U } "
@@ -13,21 +14,26 @@ class NoPart(unittest.TestCase):
     def test_before_all_else(self):
         calls = [shown(), size(0, 0), size(-1, -1), size(FAR, -FAR), total(0, 0), total(-1, 65), rank(0, ""),
                  rank(-1, ""), rank(0, "<"), rank(9, LONG), course(0, 0, 0), course(-5, 65, -1), later(0, 0, ""),
-                 later(-1, 1, "<")]
+                 later(-1, 1, "<"), compare(0, "", ""), compare(-1, "<", "<"), share(0, 1, 0), share(-1, 65, -1),
+                 width(0, 0), width(-1, 65), pack(0, ""), pack(-1, LONG), unpack(0, 0, []), unpack(-1, 65, [0]),
+                 goes(0, ""), goes(-1, "<")]
         self.assertEqual(run(*calls), [[-1]] * len(calls))
 
     def test_a_load_that_fails_holds_none(self):
-        self.assertEqual(run(load("part"), shown(), total(0, 0)), [[0, 3, 4], [-1], [-1]])
+        self.assertEqual(run(load("part"), shown(), total(0, 0), goes(0, "")), [[0, 3, 4], [-1], [-1], [-1]])
 
 
 class Loads(unittest.TestCase):
     def test_a_load_that_fails_leaves_the_object_as_it_was(self):
-        before = [shown(), total(0, 2), size(0, 0), rank(0, 'a("b");'), course(0, 1, 257)]
+        before = [shown(), total(0, 2), size(0, 0), rank(0, 'a("b");'), course(0, 1, 257), share(0, 1, 1), width(0, 2),
+                  pack(0, 'a("b");'), unpack(0, 1, [1, 1]), goes(0, 'a("b");'), compare(0, 'a("b");', "m(0, true);")]
+        many = len(before)
         for wrong in ["", "part", LONG, "<", PLAIN + "=", PLAIN.replace(" T }", " X }"), PLAIN + " S = stop"]:
             told = run(load(PLAIN), *before, load(wrong), *before)
-            self.assertEqual(told[6][0], 0)
-            self.assertEqual(len(told[6]), 3)
-            self.assertEqual(told[1:6], told[7:])
+            self.assertEqual(told[many + 1][0], 0)
+            self.assertEqual(len(told[many + 1]), 3)
+            self.assertEqual(told[1:many + 1], told[many + 2:])
+            self.assertTrue(all(answer[0] > 0 for answer in told[1:many + 1]))
 
     def test_a_second_load_takes_the_first_ones_place(self):
         other = "part Q of A\nstart S\nS = stop\nT = send A -> B { b(flag) T }\n"
