@@ -152,6 +152,19 @@ class Told(unittest.TestCase):
             many, wide = on(BUYING, total(0, n), width(0, n))
             self.all_go(BUYING, 0, n, many[0], wide[0], source)
 
+    # A course is told however long its one form is, but a text of more than 4096 bytes is no course.
+    def test_longer_than_a_text_may_be(self):
+        label, seats, least = "a" * 16, "K" * 16 + ", " + "L" * 16, "-1000000000"
+        values = ", ".join([least] * 4)
+        part = (f"part P of A start S S = send A -> B {{ {label}({', '.join([f'num {least} {least}'] * 4)})[{seats}] S ; "
+                "b() S }")
+        line = f"{label}({values})[{seats}] ;\n"
+        self.assertGreater(len(line) * 64, 4096)
+        told = on(part, unpack(0, 64, [0] * 8), course(0, 64, 0))
+        self.assertEqual(told, [row(line * 64)] * 2)
+        self.assertEqual(on(part, goes(0, line * 64), rank(0, line * 64), goes(0, line * 20)),
+                         [[0, 1, 4096], [-4], [1, 20, 0]])
+
     def all_go(self, text, i, n, many, wide, source):
         first = words_of(on(text, course(i, n, 0))[0])
         for r in [0, many - 1, source.randrange(many), source.randrange(many)]:
